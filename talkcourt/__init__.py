@@ -1,0 +1,1 @@
+"""Talkcourt: a saying at a table, one who says it, one who doubts."""
