@@ -1,4 +1,8 @@
-"""What several test files need: sayings by the hundred, and sayings at the edges."""
+"""What several test files need: sayings by the hundred, sayings at the edges, and all books."""
+
+import itertools
+
+from talkcourt.books import Book
 
 A, B, C = ("say", "a"), ("say", "b"), ("say", "c")
 TWO_SIDED = ("and", "if", "or")
@@ -50,3 +54,19 @@ def edge_sayings():
                 mixed = (word, mixed, A) if step % 2 else (other, C, mixed)
             found.append(("not", mixed))
     return found
+
+
+def all_books():
+    """All thirty-two books, by their fields."""
+    wide, often = ("last", "any"), ("once", "often")
+    return [Book(*fields) for fields in itertools.product(wide, often, often, wide, wide)]
+
+
+def books_let_by():
+    """The sixteen books whose other speaks to the last."""
+    return [book for book in all_books() if book.other == "last"]
+
+
+def fields(book):
+    """The five fields of a book, in their order."""
+    return (book.answers, book.again, book.doubts, book.speaks, book.other)

@@ -1,0 +1,133 @@
+"""Moves, replies and what stands behind them, against a slow reckoning with sets."""
+
+import random
+import unittest
+
+from helper import A, B, C, books_let_by, small_sayings
+from talkcourt.sayings import parts_of
+from talkcourt.standings import after, moves, replies, start
+
+NOT, AND, OR, IF = ("not", A), ("and", A, B), ("or", A, B), ("if", A, B)
+MOST_STANDINGS = 150
+
+
+def slow_doubts(sayings):
+    """Every doubt of these sayings but begin, with its answers and what is said by it."""
+    found = {}
+    for saying in sayings:
+        sort, sides = saying[0], saying[1:]
+        if sort == "and":
+            found["left", saying] = ({sides[0]}, None)
+            found["right", saying] = ({sides[1]}, None)
+        elif sort == "or":
+            found["which", saying] = (set(sides), None)
+        elif sort == "if":
+            found["if", saying] = ({sides[1]}, sides[0])
+        elif sort == "not":
+            found["not", saying] = (set(), sides[0])
+    return found
+
+
+def slow_moves(book, standing):
+    said, unanswered, used, fresh = standing
+    found = set()
+    for word, saying in unanswered:
+        answers = {saying} if word == "begin" else slow_doubts([saying])[word, saying][0]
+        found |= {("answer", (word, saying), answer) for answer in answers if answer[0] != "say" or answer in said}
+    spoken_of = {"any": said, "last": fresh}[book.speaks]
+    for (word, saying), (_, says) in slow_doubts(spoken_of).items():
+        if book.doubts == "once" and (word, saying) in used:
+            continue
+        if says and says[0] == "say" and says not in said:
+            continue
+        found.add(("doubt", word, saying))
+    return sorted(found)
+
+
+def slow_told(move):
+    return move[2] if move[0] == "answer" else slow_doubts([move[2]])[move[1], move[2]][1]
+
+
+def slow_replies(move):
+    told = slow_told(move)
+    found = {("doubt", word) for word, _ in slow_doubts([told] if told else [])}
+    if move[0] == "doubt":
+        found |= {("answer", answer) for answer in slow_doubts([move[2]])[move[1], move[2]][0]}
+    return sorted(found)
+
+
+def slow_after(book, standing, move, reply):
+    said, unanswered, used, fresh = map(set, standing)
+    told = slow_told(move)
+    if reply[0] == "answer":
+        now, made = {reply[1]}, set()
+    else:
+        made = {(reply[1], told)}
+        now = {slow_doubts([told])[reply[1], told][1]} - {None}
+    if book.speaks == "any" and book.answers == "any":
+        answered = {move[1]} if move[0] == "answer" and book.again == "once" else set()
+        unanswered = (unanswered - answered) | made
+    elif made or book.speaks == "last":
+        unanswered = made
+    if book.doubts == "once" and move[0] == "doubt":
+        used |= {(move[1], move[2])}
+    fresh = now if book.speaks == "last" else set()
+    return tuple(tuple(sorted(field)) for field in (said | now, unanswered, used, fresh))
+
+
+def any_standings(book, parts, many):
+    """So many standings of these parts, whether or not a talk comes to them; the same ones every time."""
+    dice = random.Random(many)
+    doubts = list(slow_doubts(parts))
+    asked = doubts + [("begin", part) for part in parts]
+    for _ in range(many):
+        said = dice.sample(parts, dice.randint(0, len(parts)))
+        unanswered = dice.sample(asked, dice.randint(0, min(4, len(asked))))
+        used = dice.sample(doubts, dice.randint(0, len(doubts))) if book.doubts == "once" else []
+        fresh = dice.sample(said, dice.randint(0, len(said))) if book.speaks == "last" else []
+        yield tuple(tuple(sorted(field)) for field in (said, unanswered, used, fresh))
+
+
+class Against(unittest.TestCase):
+    def compare(self, book, standing):
+        """Compares all at one standing, and tells the standings behind it."""
+        found = moves(book, standing)
+        self.assertEqual(found, slow_moves(book, standing))
+        behind = []
+        for move in found:
+            said_back = replies(move)
+            self.assertEqual(said_back, slow_replies(move))
+            for reply in said_back:
+                told = after(book, standing, move, reply)
+                self.assertEqual(told, slow_after(book, standing, move, reply))
+                for field in told:
+                    self.assertIsInstance(field, tuple)
+                    self.assertEqual(list(field), sorted(set(field)))
+                behind.append(told)
+        return behind
+
+    def test_standings_that_talks_come_to(self):
+        for saying in small_sayings(5, ("a",)) + small_sayings(4):
+            for book in books_let_by():
+                seen, waiting = {start(saying)}, [start(saying)]
+                while waiting and len(seen) < MOST_STANDINGS:
+                    for told in self.compare(book, waiting.pop(0)):
+                        if told not in seen:
+                            seen.add(told)
+                            waiting.append(told)
+
+    def test_standings_that_no_talk_comes_to(self):
+        wholes = (
+            ("if", ("and", A, B), ("or", NOT, B)),
+            ("or", ("if", NOT, ("or", A, A)), ("not", ("and", B, C))),
+            ("not", ("if", ("not", NOT), ("and", ("or", A, B), IF))),
+            ("and", ("or", AND, AND), ("if", ("or", C, IF), NOT)),
+        )
+        for whole in wholes:
+            for book in books_let_by():
+                for standing in any_standings(book, parts_of(whole), 60):
+                    self.compare(book, standing)
+
+
+if __name__ == "__main__":
+    unittest.main()
