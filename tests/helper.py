@@ -1,4 +1,4 @@
-"""What several test files need: sayings by the hundred, sayings at the edges, and all books."""
+"""What several test files need: sayings by the hundred, sayings at the edges, all books, and a slow reckoning with sets."""
 
 import itertools
 
@@ -70,3 +70,93 @@ def books_let_by():
 def fields(book):
     """The five fields of a book, in their order."""
     return (book.answers, book.again, book.doubts, book.speaks, book.other)
+
+
+def slow_doubts(sayings):
+    """Every doubt of these sayings but begin, with its answers and what is said by it."""
+    found = {}
+    for saying in sayings:
+        sort, sides = saying[0], saying[1:]
+        if sort == "and":
+            found["left", saying] = ({sides[0]}, None)
+            found["right", saying] = ({sides[1]}, None)
+        elif sort == "or":
+            found["which", saying] = (set(sides), None)
+        elif sort == "if":
+            found["if", saying] = ({sides[1]}, sides[0])
+        elif sort == "not":
+            found["not", saying] = (set(), sides[0])
+    return found
+
+
+def slow_moves(book, standing):
+    said, unanswered, used, fresh = standing
+    found = set()
+    for word, saying in unanswered:
+        answers = {saying} if word == "begin" else slow_doubts([saying])[word, saying][0]
+        found |= {("answer", (word, saying), answer) for answer in answers if answer[0] != "say" or answer in said}
+    spoken_of = {"any": said, "last": fresh}[book.speaks]
+    for (word, saying), (_, says) in slow_doubts(spoken_of).items():
+        if book.doubts == "once" and (word, saying) in used:
+            continue
+        if says and says[0] == "say" and says not in said:
+            continue
+        found.add(("doubt", word, saying))
+    return sorted(found)
+
+
+def slow_told(move):
+    return move[2] if move[0] == "answer" else slow_doubts([move[2]])[move[1], move[2]][1]
+
+
+def slow_replies(move):
+    told = slow_told(move)
+    found = {("doubt", word) for word, _ in slow_doubts([told] if told else [])}
+    if move[0] == "doubt":
+        found |= {("answer", answer) for answer in slow_doubts([move[2]])[move[1], move[2]][0]}
+    return sorted(found)
+
+
+def slow_after(book, standing, move, reply):
+    said, unanswered, used, fresh = map(set, standing)
+    told = slow_told(move)
+    if reply[0] == "answer":
+        now, made = {reply[1]}, set()
+    else:
+        made = {(reply[1], told)}
+        now = {slow_doubts([told])[reply[1], told][1]} - {None}
+    if book.speaks == "any" and book.answers == "any":
+        answered = {move[1]} if move[0] == "answer" and book.again == "once" else set()
+        unanswered = (unanswered - answered) | made
+    elif made or book.speaks == "last":
+        unanswered = made
+    if book.doubts == "once" and move[0] == "doubt":
+        used |= {(move[1], move[2])}
+    fresh = now if book.speaks == "last" else set()
+    return tuple(tuple(sorted(field)) for field in (said | now, unanswered, used, fresh))
+
+
+def plain_graph(book, saying):
+    """Of each reached standing the moves there, and of each move its replies with the standings behind them."""
+    graph, waiting = {}, [((), (("begin", saying),), (), ())]
+    while waiting:
+        standing = waiting.pop()
+        if standing not in graph:
+            graph[standing] = {
+                move: {reply: slow_after(book, standing, move, reply) for reply in slow_replies(move)}
+                for move in slow_moves(book, standing)
+            }
+            waiting.extend(told for on in graph[standing].values() for told in on.values())
+    return graph
+
+
+def plain_numbers(book, saying):
+    """Of each reached standing the least number of rounds, by asking again and again whether it goes within k."""
+    graph = plain_graph(book, saying)
+    within = {standing: None for standing in graph}
+    for rounds in range(1, len(graph) + 1):
+        won = {standing for standing, number in within.items() if number is not None}
+        for standing in graph:
+            if standing not in won and any(set(on.values()) <= won for on in graph[standing].values()):
+                within[standing] = rounds
+    return within
