@@ -1,4 +1,4 @@
-"""What several modules need: sorted lists without anything twice, and words between blanks."""
+"""What several modules need: sorted lists without anything twice, all that is within a thing, words between blanks."""
 
 
 def sorted_once(things):
@@ -9,6 +9,18 @@ def sorted_once(things):
         if not once or once[-1] != thing:
             once.append(thing)
     return once
+
+
+def all_within(whole, sides_of):
+    """A list of a whole and all within it, each as often as it stands there, a thing ahead of its sides, in order."""
+    # A list of what is left to look at, not a recursion: the whole may nest as deep as it likes.
+    found = []
+    waiting = [whole]
+    while waiting:
+        thing = waiting.pop()
+        found.append(thing)
+        waiting.extend(sides_of(thing)[::-1])
+    return found
 
 
 def words_between_blanks(row):

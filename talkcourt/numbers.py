@@ -11,6 +11,11 @@ def numbers(book, saying):
     return [(standing, known.get(repr(standing))) for standing in found]
 
 
+def numbers_by_texts(book, saying):
+    """The numbers of all reached standings, or None, by the texts of the standings."""
+    return {repr(standing): number for standing, number in numbers(book, saying)}
+
+
 def ways_on(book, standing, some_moves):
     """A list of a way for each of these moves: the texts of the standings behind it and each reply."""
     return [[repr(other) for other in behind(book, standing, move)] for move in some_moves]

@@ -1,6 +1,6 @@
 """Sayings: what they are and what they are made of."""
 
-from talkcourt.helper import sorted_once
+from talkcourt.helper import all_within, sorted_once
 
 LONGEST_NAME = 6
 NO_NAMES = ("and", "or", "not", "then")
@@ -42,13 +42,7 @@ def sides_of(saying):
 
 def all_parts(saying):
     """A list of its parts, each as often as it stands there: itself, then those of A, then those of B."""
-    parts = []
-    waiting = [saying]
-    while waiting:
-        part = waiting.pop()
-        parts.append(part)
-        waiting.extend(sides_of(part)[::-1])
-    return parts
+    return all_within(saying, sides_of)
 
 
 def size(saying):

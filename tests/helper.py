@@ -160,3 +160,75 @@ def plain_numbers(book, saying):
             if standing not in won and any(set(on.values()) <= won for on in graph[standing].values()):
                 within[standing] = rounds
     return within
+
+
+def walked_talks(book, saying, side, rows):
+    """All talks that go by these rows, walked one by one to where they end or a row lacks: steps, standings, how it ended.
+
+    rows are a dict of what the side plays, by (standing,) or (standing, move); an end is "first", "other", or None
+    where the row lacks or tells what can't be.
+    """
+    waiting = [((), (((), (("begin", saying),), (), ()),))]
+    while waiting:
+        steps, stood = waiting.pop()
+        can = [] if stood[-1] in stood[:-1] else slow_moves(book, stood[-1])
+        if not can:
+            yield steps, stood, "other"
+            continue
+        if side == "first":
+            if rows.get((stood[-1],)) not in can:
+                yield steps, stood, None
+                continue
+            can = [rows[(stood[-1],)]]
+        for move in can:
+            back = slow_replies(move)
+            if back and side == "other":
+                told = rows.get((stood[-1], move))
+                if told not in back:
+                    yield steps + (move,), stood, None
+                    continue
+                back = [told]
+            if not back:
+                yield steps + (move,), stood, "first"
+            for reply in back:
+                waiting.append((steps + (move, reply), stood + (slow_after(book, stood[-1], move, reply),)))
+
+
+def rows_by_place(plan):
+    """What a plan tells, by all of each row but its last thing."""
+    return {row[:-1]: row[-1] for row in plan}
+
+
+def plain_wins(book, saying, side, plan):
+    """Whether a plan wins, by walking every talk."""
+    if list(plan) != sorted(plan) or len(rows_by_place(plan)) < len(plan):
+        return False
+    return all(end == side for _, _, end in walked_talks(book, saying, side, rows_by_place(plan)))
+
+
+def plain_places(book, saying, side, plan):
+    """The places, (standing,) or (standing, move), that the talks by a winning plan come to, sorted."""
+    found = set()
+    for steps, stood, _ in walked_talks(book, saying, side, rows_by_place(plan)):
+        moves_made = steps[::2]
+        for number, move in enumerate(moves_made):
+            found.add((stood[number],) if side == "first" else (stood[number], move))
+    return sorted(found)
+
+
+def plan_with_detours(book, saying, dice):
+    """A plan of the first that wins, by chance, not the shortest; None where there is none."""
+    graph = plain_graph(book, saying)
+    picked = {}
+    while True:
+        can = [
+            (standing, move)
+            for standing in sorted(graph)
+            for move, back in graph[standing].items()
+            if standing not in picked and all(told in picked for told in back.values())
+        ]
+        if not can:
+            break
+        standing, move = dice.choice(can)
+        picked[standing] = move
+    return tuple(sorted(picked.items())) if ((), (("begin", saying),), (), ()) in picked else None
