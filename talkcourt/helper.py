@@ -1,4 +1,6 @@
-"""What several modules need: sorted lists without anything twice, all that is within a thing, words between blanks."""
+"""What several modules need: things in order, all that is within a thing, words and numbers of a text."""
+
+from talkcourt.errors import NoText
 
 
 def sorted_once(things):
@@ -9,6 +11,11 @@ def sorted_once(things):
         if not once or once[-1] != thing:
             once.append(thing)
     return once
+
+
+def is_rising(things):
+    """Whether they are sorted, none twice."""
+    return all([one < later for one, later in zip(things, things[1:])])
 
 
 def all_within(whole, sides_of):
@@ -26,3 +33,17 @@ def all_within(whole, sides_of):
 def words_between_blanks(row):
     """The words of a row, parted by one blank or more; other white space is a sign like any other."""
     return [word for word in row.split(" ") if word]
+
+
+def words_and_brackets(row):
+    """The words and brackets of a row, in order; about brackets there need be no blanks."""
+    return words_between_blanks(row.replace("(", " ( ").replace(")", " ) "))
+
+
+def read_number(word, most_figures):
+    """The number that a word writes by figures, at most so many, the first no 0 but in 0 itself, or NoText."""
+    if not 1 <= len(word) <= most_figures or not all(["0" <= sign <= "9" for sign in word]):
+        raise NoText()
+    if word[0] == "0" and word != "0":
+        raise NoText()
+    return int(word)

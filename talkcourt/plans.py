@@ -1,6 +1,7 @@
 """Plans: whether they win, and what is left of them when all is cut that no talk comes to."""
 
 from talkcourt.errors import NoPlan
+from talkcourt.helper import is_rising
 from talkcourt.numbers import least_rounds, ways_on
 from talkcourt.reached import behind, come_to
 from talkcourt.standings import after, moves, replies, start
@@ -34,7 +35,7 @@ def rows_come_to(book, saying, side, plan):
 
 def is_in_order(plan):
     """Whether the rows are sorted, one for a place: all of a row but its last thing."""
-    return all([row[:-1] < later[:-1] for row, later in zip(plan, plan[1:])])
+    return is_rising([row[:-1] for row in plan])
 
 
 def by_places(plan):

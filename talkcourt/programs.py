@@ -6,6 +6,8 @@ from talkcourt.standings import moves, replies, told_by
 
 # How many conditions these join.
 JOINED = {"not": 1, "and": 2, "or": 2}
+# How many things stand behind the word of a condition that joins no others: a saying at the end, a word ahead of it.
+SINGLES = {"any": 0, "said": 1, "fresh": 1, "heard": 1, "open": 2, "used": 2, "asked": 2, "answered": 2}
 WORDS_OF_DEEDS = ("left", "right", "which", "if", "not")
 WORDS_OF_CONDITIONS = ("begin", "left", "right", "which", "if", "not")
 GREATEST_NUMBER = 999
@@ -44,13 +46,11 @@ def begins_with_text(thing):
 
 def is_single(word, things):
     """Whether this word and these things make a condition that joins no others."""
-    if word == "any":
-        return len(things) == 0
-    if word in ("said", "fresh", "heard"):
-        return len(things) == 1 and is_saying(things[0])
-    if word in ("open", "used", "asked", "answered"):
-        return len(things) == 2 and is_one_of(things[0], WORDS_OF_CONDITIONS) and is_saying(things[1])
-    return False
+    if SINGLES.get(word) != len(things):
+        return False
+    if len(things) == 2 and not is_one_of(things[0], WORDS_OF_CONDITIONS):
+        return False
+    return len(things) == 0 or is_saying(things[-1])
 
 
 def is_one_of(thing, words):
@@ -133,10 +133,10 @@ def choice(program, book, standing, move=None):
     """The move that a program plays, or, where a move is handed in, its reply; None where it gives up."""
     steps = moves(book, standing) if move is None else replies(move)
     for condition, deed in program:
-        if holds(condition, standing, move):
-            played = played_by(deed, steps)
-            if played is not None:
-                return played
+        # The deed is looked at ahead of the condition, which takes longer.
+        played = played_by(deed, steps)
+        if played is not None and holds(condition, standing, move):
+            return played
     return None
 
 

@@ -1,9 +1,8 @@
 """Steps and talks written as texts and read from them."""
 
+from talkcourt.braces import braces_emptied, in_braces
 from talkcourt.doubts import doubts_of
 from talkcourt.errors import NoText
-from talkcourt.sayread import read_saying
-from talkcourt.saywrite import show_saying
 
 SIDES = ("first", "other")
 WORDS_OF_REPLIES = ("left", "right", "which", "if", "not")
@@ -21,11 +20,6 @@ def show_step(step):
     if len(step) == LENGTHS["other"]:
         return f"doubt {step[1]}"
     return f"doubt {step[1]} " + in_braces(step[2])
-
-
-def in_braces(saying):
-    """The text of a saying within braces."""
-    return "{" + show_saying(saying) + "}"
 
 
 def show_talk(steps):
@@ -57,25 +51,13 @@ def read_step(text):
     """The move or reply that a text writes, or NoText."""
     if not isinstance(text, str):
         raise NoText()
-    words, sayings = words_and_sayings(text)
+    outside, sayings = braces_emptied(text)
+    words = outside.split(" ")
     if words[0] == "answer":
         return read_answer(words[1:], sayings)
     if words[0] == "doubt":
         return read_doubt(words[1:], sayings)
     raise NoText()
-
-
-def words_and_sayings(text):
-    """The words of a text, {} in place of each saying in braces, and these sayings."""
-    outside, *pieces = text.split("{")
-    sayings = []
-    for piece in pieces:
-        within, brace, behind = piece.partition("}")
-        if brace == "" or "\n" in within:
-            raise NoText()
-        sayings.append(read_saying(within))
-        outside += "{}" + behind
-    return outside.split(" "), sayings
 
 
 def read_answer(words, sayings):

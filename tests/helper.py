@@ -3,9 +3,12 @@
 import itertools
 
 from talkcourt.books import Book
+from talkcourt.sayings import names_in
 
 A, B, C = ("say", "a"), ("say", "b"), ("say", "c")
 TWO_SIDED = ("and", "if", "or")
+ANY = ("any",)
+WORDS = ("begin", "left", "right", "which", "if", "not")
 
 
 def sayings_of_size(many, names=("a", "b")):
@@ -232,3 +235,68 @@ def plan_with_detours(book, saying, dice):
         standing, move = dice.choice(can)
         picked[standing] = move
     return tuple(sorted(picked.items())) if ((), (("begin", saying),), (), ()) in picked else None
+
+
+def some_saying(dice, many, names):
+    """A saying of so many parts by chance."""
+    if many == 1:
+        return ("say", dice.choice(names))
+    if many == 2 or dice.random() < 0.25:
+        return ("not", some_saying(dice, many - 1, names))
+    left = dice.randint(1, many - 2)
+    word = dice.choice(("and", "or", "if"))
+    return (word, some_saying(dice, left, names), some_saying(dice, many - 1 - left, names))
+
+
+def is_true(saying, names):
+    """Whether a saying is true where just these names are."""
+    if saying[0] == "say":
+        return saying[1] in names
+    sides = [is_true(side, names) for side in saying[1:]]
+    return {"not": not sides[0], "and": all(sides), "or": any(sides), "if": not sides[0] or sides[-1]}[saying[0]]
+
+
+def is_always_true(saying):
+    every = names_in(saying)
+    rows = [row for many in range(len(every) + 1) for row in itertools.combinations(every, many)]
+    return all(is_true(saying, row) for row in rows)
+
+
+def every_condition(saying):
+    """Each sort of condition of this saying that joins no others, with each word."""
+    found = [ANY] + [(sort, saying) for sort in ("said", "fresh", "heard")]
+    found.extend((sort, word, saying) for sort in ("open", "used", "asked", "answered") for word in WORDS)
+    return found
+
+
+def every_deed(saying):
+    """Each sort of deed of this saying, with each word."""
+    found = [("answer", saying), ("move", 0), ("move", 1), ("move", 999)]
+    found.extend(("doubt", word, saying) for word in WORDS[1:])
+    return found + [("doubt", word) for word in WORDS[1:]]
+
+
+def some_condition(dice, sayings, deep):
+    """A condition by chance that nests at most so deep."""
+    sort = dice.choice(("not", "and", "or", "single", "single")) if deep else "single"
+    if sort == "single":
+        return dice.choice(every_condition(dice.choice(sayings)))
+    return (sort,) + tuple(some_condition(dice, sayings, deep - 1) for _ in range(1 if sort == "not" else 2))
+
+
+def some_program(dice, sayings, many, deep=2):
+    """A program of so many rows by chance."""
+    return tuple((some_condition(dice, sayings, deep), dice.choice(every_deed(dice.choice(sayings)))) for _ in range(many))
+
+
+def drawn_plan_of_other(book, saying, dice):
+    """A plan of the other that wins, by chance, with rows that aren't come to; None where there is none."""
+    graph, within = plain_graph(book, saying), plain_numbers(book, saying)
+    if within[((), (("begin", saying),), (), ())] is not None:
+        return None
+    return tuple(sorted(
+        (standing, move, dice.choice([reply for reply in back if within[back[reply]] is None]))
+        for standing in graph
+        if within[standing] is None
+        for move, back in graph[standing].items()
+    ))

@@ -53,6 +53,32 @@ def bound_names(tree):
     return found
 
 
+def top_names(tree):
+    """The names that a file binds at its top, each as often as it does."""
+    found = []
+    for node in tree.body:
+        if isinstance(node, (ast.FunctionDef, ast.ClassDef)):
+            found.append(node.name)
+        elif isinstance(node, ast.ImportFrom):
+            found.extend(alias.asname or alias.name for alias in node.names)
+        elif isinstance(node, ast.Assign):
+            found.extend(target.id for target in node.targets)
+    return found
+
+
+def drawn_names(tree):
+    """The names that a file draws from others."""
+    return {alias.name for node in tree.body if isinstance(node, ast.ImportFrom) for alias in node.names}
+
+
+def drawn_from():
+    """Of each file the files that it draws from."""
+    return {
+        name: {node.module.split(".")[1] + ".py" for node in ast.walk(tree) if isinstance(node, ast.ImportFrom)}
+        for name, tree in trees()
+    }
+
+
 class Form(unittest.TestCase):
     def test_nothing_else_lies_in_the_package(self):
         names = [path.name for path in FILES if path.name != "__pycache__"]
@@ -100,6 +126,36 @@ class Form(unittest.TestCase):
             for node in ast.walk(tree):
                 if isinstance(node, ast.Name) and isinstance(node.ctx, ast.Load):
                     self.assertIn(node.id, bound | OWN_NAMES, name)
+
+    def test_each_name_once(self):
+        for name, tree in trees():
+            top = top_names(tree)
+            self.assertEqual(len(top), len(set(top)), name)
+            drawn = drawn_names(tree) | {node.name for node in tree.body if isinstance(node, ast.ClassDef)}
+            for made in ast.walk(tree):
+                if isinstance(made, (ast.FunctionDef, ast.Lambda)):
+                    local = {node.arg for node in ast.walk(made.args) if isinstance(node, ast.arg)}
+                    local |= {node.id for node in ast.walk(made) if isinstance(node, ast.Name) and isinstance(node.ctx, ast.Store)}
+                    self.assertFalse(local & drawn, (name, local & drawn))
+
+    def test_drawn_names_are_used_and_defined_there(self):
+        # Without the import rows: a name is drawn from the very file that defines it.
+        tops = {name: set(top_names(tree)) - drawn_names(tree) for name, tree in trees()}
+        for name, tree in trees():
+            used = {node.id for node in ast.walk(tree) if isinstance(node, ast.Name)}
+            for node in tree.body:
+                if isinstance(node, ast.ImportFrom):
+                    for alias in node.names:
+                        self.assertIn(alias.name, used, name)
+                        self.assertIn(alias.name, tops[node.module.split(".")[1] + ".py"], name)
+
+    def test_no_two_files_draw_from_one_another(self):
+        drawn = drawn_from()
+        while drawn:
+            free = [name for name in drawn if not drawn[name] & set(drawn)]
+            self.assertTrue(free, drawn)
+            for name in free:
+                del drawn[name]
 
     def test_methods_and_values(self):
         given = {

@@ -1,20 +1,19 @@
 """Judging: one side has the saying, its plan wins, and the first's wins within the least number of rounds."""
 
-import itertools
 import random
 import time
 import unittest
 
 from helper import (
-    A, B, all_books, books_let_by, fields, plain_numbers, plain_places, plain_wins, rows_by_place, sayings_of_size,
-    small_sayings, walked_talks,
+    A, B, all_books, books_let_by, fields, is_always_true, plain_numbers, plain_places, plain_wins, rows_by_place,
+    sayings_of_size, small_sayings, some_saying, walked_talks,
 )
 from talkcourt.books import free, let_by, no_more, strict
 from talkcourt.errors import NotLet, TalkError
 from talkcourt.judge import judged
 from talkcourt.numbers import numbers
 from talkcourt.plans import cut, wins
-from talkcourt.sayings import names_in, size
+from talkcourt.sayings import size
 from talkcourt.sayread import read_saying
 from talkcourt.standings import start
 
@@ -26,31 +25,6 @@ AT_THE_STRICT_BOUND = (
     "(a then b) then (b then c) then a then c", "not (a or b) then not a and not b", "not not (a or not a) and not not b",
     "a and (b or c) then b or a and c", "(a then b) then not b then not a", "not not (not (f and d) and not (b or e))",
 )
-
-
-def some_saying(dice, many, names):
-    """A saying of so many parts by chance."""
-    if many == 1:
-        return ("say", dice.choice(names))
-    if many == 2 or dice.random() < 0.25:
-        return ("not", some_saying(dice, many - 1, names))
-    left = dice.randint(1, many - 2)
-    word = dice.choice(("and", "or", "if"))
-    return (word, some_saying(dice, left, names), some_saying(dice, many - 1 - left, names))
-
-
-def is_true(saying, names):
-    """Whether a saying is true where just these names are."""
-    if saying[0] == "say":
-        return saying[1] in names
-    sides = [is_true(side, names) for side in saying[1:]]
-    return {"not": not sides[0], "and": all(sides), "or": any(sides), "if": not sides[0] or sides[-1]}[saying[0]]
-
-
-def is_always_true(saying):
-    every = names_in(saying)
-    rows = [row for many in range(len(every) + 1) for row in itertools.combinations(every, many)]
-    return all(is_true(saying, row) for row in rows)
 
 
 class Judged(unittest.TestCase):

@@ -5,33 +5,20 @@ import random
 import unittest
 from unittest import mock
 
-from helper import A, B, C, books_let_by, fields, plain_graph, slow_moves, slow_replies, slow_told, small_sayings
+from helper import (
+    A, ANY, B, C, WORDS, books_let_by, every_condition, every_deed, fields, plain_graph, slow_moves, slow_replies, slow_told,
+    small_sayings, some_condition,
+)
 from talkcourt.books import Book, free, strict
 from talkcourt.programs import choice, holds, is_program
 from talkcourt.sayread import read_saying
 from talkcourt.standings import start
 
 AND, OR, IF, NOT = ("and", A, B), ("or", A, B), ("if", A, B), ("not", A)
-WORDS = ("begin", "left", "right", "which", "if", "not")
-ANY = ("any",)
 MOVE = ("move", 0)
 # said, open, used, fresh; of parts of one saying.
 STANDING = ((AND, NOT, A), (("begin", IF), ("which", OR)), (("left", AND),), (NOT, A))
 NEVER = ("not", ANY)
-
-
-def every_condition(saying):
-    """Each sort of condition of this saying that joins no others, with each word."""
-    found = [ANY] + [(sort, saying) for sort in ("said", "fresh", "heard")]
-    found.extend((sort, word, saying) for sort in ("open", "used", "asked", "answered") for word in WORDS)
-    return found
-
-
-def every_deed(saying):
-    """Each sort of deed of this saying, with each word."""
-    found = [("answer", saying), ("move", 0), ("move", 1), ("move", 999)]
-    found.extend(("doubt", word, saying) for word in WORDS[1:])
-    return found + [("doubt", word) for word in WORDS[1:]]
 
 
 class IsProgram(unittest.TestCase):
@@ -136,14 +123,6 @@ def slow_holds(condition, standing, move):
         "asked": lambda: move is not None and move == ("doubt",) + rest,
         "answered": lambda: move is not None and move[:2] == ("answer", rest),
     }[sort]()
-
-
-def some_condition(dice, sayings, deep):
-    """A condition by chance that nests at most so deep."""
-    sort = dice.choice(("not", "and", "or", "single", "single")) if deep else "single"
-    if sort == "single":
-        return dice.choice(every_condition(dice.choice(sayings)))
-    return (sort,) + tuple(some_condition(dice, sayings, deep - 1) for _ in range(1 if sort == "not" else 2))
 
 
 class Holds(unittest.TestCase):
