@@ -12,18 +12,14 @@ AGAINST = {"first": "other", "other": "first"}
 
 def met(book, saying, side, program):
     """A sorted tuple of all that a program of this side meets, and what it plays there, or None where it gives up."""
-    rows_at = rows_of_first if side == "first" else rows_of_other
-    found = come_to(start(saying), lambda standing: next_by_rows(book, rows_at(book, standing, program)))
-    return tuple(sorted([row for standing in found for row in rows_at(book, standing, program)]))
+    found = come_to(start(saying), lambda standing: next_by_rows(book, rows_at(book, side, standing, program)))
+    return tuple(sorted([row for standing in found for row in rows_at(book, side, standing, program)]))
 
 
-def rows_of_first(book, standing, program):
-    """A list of the row (standing, move or None) of a program of the first at a standing."""
-    return [(standing, choice(program, book, standing))]
-
-
-def rows_of_other(book, standing, program):
-    """A list of the rows (standing, move, reply or None) of a program of the other, one for each move at a standing."""
+def rows_at(book, side, standing, program):
+    """A list of a program's rows at a standing: one, of the first, and one for each move there, of the other."""
+    if side == "first":
+        return [(standing, choice(program, book, standing))]
     return [(standing, move, choice(program, book, standing, move)) for move in moves(book, standing)]
 
 

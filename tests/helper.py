@@ -300,3 +300,31 @@ def drawn_plan_of_other(book, saying, dice):
         if within[standing] is None
         for move, back in graph[standing].items()
     ))
+
+
+def good_webs(many, names=("a", "b")):
+    """All good webs of so many worlds over these names."""
+    rows = [row for length in range(len(names) + 1) for row in itertools.combinations(sorted(names), length)]
+    pairs = list(itertools.combinations(range(many), 2))
+    for flags in itertools.product((False, True), repeat=len(pairs)):
+        order = {pair for pair, flag in zip(pairs, flags) if flag}
+        if any((i, k) not in order for i, j in order for at, k in order if at == j):
+            continue
+        later = [tuple(sorted(j for i, j in order if i == at)) for at in range(many)]
+        for true in itertools.product(rows, repeat=many):
+            if all(set(true[i]) <= set(true[j]) for i, j in order):
+                yield tuple(zip(true, later))
+
+
+def slow_bears(web, world, saying):
+    """Whether a world bears a saying, by recursion."""
+    names, later = web[world]
+    sort, sides = saying[0], saying[1:]
+    if sort == "say":
+        return sides[0] in names
+    if sort == "and":
+        return slow_bears(web, world, sides[0]) and slow_bears(web, world, sides[1])
+    if sort == "or":
+        return slow_bears(web, world, sides[0]) or slow_bears(web, world, sides[1])
+    here = [other for other in (world,) + later if slow_bears(web, other, sides[0])]
+    return not here if sort == "not" else all(slow_bears(web, other, sides[1]) for other in here)

@@ -97,6 +97,20 @@ class EachWhy(Papers):
         ):
             self.last(AHEAD, False, given_ones, said, "both", *above)
 
+    def test_nothing_is_let_go(self):
+        # What the first row above says is given in the second one, so that it must be given in the last one, too.
+        ahead = given(AND) + (row([AND], A, "left", 0), row([A], A, "given"), row([IF], IF, "given"), row([A, IF], A, "given"))
+        for given_ones, said, why, above, lacking in (
+            ([AND, A], ("and", A, A), "both", (1, 2), A), ([IF, A], B, "use", (3, 4), IF),
+        ):
+            self.last(ahead, True, given_ones, said, why, *above)
+            self.last(ahead, False, [saying for saying in given_ones if saying != lacking], said, why, *above)
+        both = ("and", NOT, A)
+        ahead = given(both) + (row([both], NOT, "left", 0), row([NOT, A], A, "given"))
+        self.last(ahead, True, [both, NOT, A], None, "clash", 1, 2)
+        self.last(ahead, False, [both, A], None, "clash", 1, 2)
+        self.last(ahead, False, [both, NOT], None, "clash", 1, 2)
+
     def test_left_and_right(self):
         self.last(AHEAD, True, [AND], A, "left", 3)
         self.last(AHEAD, True, [AND], B, "right", 3)

@@ -195,7 +195,7 @@ class Refused(Texts):
             "open left {a} b : move 0", "asked {a} : move 0", "answered {a} : move 0", "used {a} : move 0", "heard if {a} : move 0",
             "fresh if {a} : move 0", "not : move 0", "any not : move 0", "any and : move 0", "and any : move 0", "or : move 0",
             "any or or any : move 0", "any and or any : move 0", "any not any : move 0", "any said {a} : move 0", "not and any : move 0",
-            "any : move", "any : move 0 0", "any : move {a}", "any : move 0 {a}", "any : move a", "any : answer", "any : answer a",
+            "any : move", "any : move 0 0", "any : move {a}", "any : move {a and b}", "any : move {not a}", "any : move 0 {a}", "any : move a", "any : answer", "any : answer a",
             "any : answer {a} {b}", "any : answer left {a}", "any : answer {a} with {b}", "any : answer left {a and b} with {a}",
             "any : doubt", "any : doubt {a}", "any : doubt left {a} {b}", "any : doubt left right", "any : doubt left right {a}",
             "any : doubt left a", "any : {a}", "any : any", "any : said {a}", "any : not move 0", "any : move 0 and move 1",
